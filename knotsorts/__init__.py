@@ -1,0 +1,1 @@
+"""Knotsorts: sorting by rules that are no orders."""
