@@ -1,6 +1,6 @@
 """What several modules need: the checks of arguments, and the answers of a rule."""
 
-from knotsorts.errors import InvalidRule, UnknownItem
+from knotsorts.errors import InvalidRow, InvalidRule, UnknownItem, UnknownSort
 
 
 def is_whole(thing):
@@ -55,9 +55,31 @@ def check_item(rule, item):
         raise UnknownItem(item)
 
 
+def check_row(rule, row):
+    """Raises InvalidRow if this is not a row of the rule."""
+    size = len(rule)
+    if not isinstance(row, list) or len(row) != size:
+        raise InvalidRow(None)
+    for place, item in enumerate(row):
+        if not is_item(size, item) or item in row[:place]:
+            raise InvalidRow(place)
+
+
+def check_sort(sort, names):
+    """Raises UnknownSort if this is not one of the names."""
+    # Other kinds of things are not compared with the names: what they would answer is not known.
+    if not isinstance(sort, str) or sort not in names:
+        raise UnknownSort(sort)
+
+
 def is_before(rule, one, other):
     """Whether one item is before another one."""
     return rule[one][other] == -1
+
+
+def items_behind(rule, one):
+    """The ascending list of the items that an item is before."""
+    return [other for other in range(len(rule)) if is_before(rule, one, other)]
 
 
 def may_precede(rule, one, other):

@@ -1,5 +1,6 @@
 """Rules to test with, and what the document says, looked up in the plainest way."""
 
+import inspect
 import itertools
 import random
 
@@ -27,11 +28,11 @@ def random_rule(size, seed, answers=(-1, 0, 1)):
     return rule_from(size, [chance.choice(answers) for _ in range(size * (size - 1) // 2)])
 
 
-def some_rules():
-    """All rules of up to 4 items, and rules of up to 12 items, with many ties, few and none."""
+def some_rules(most=12, seeds=6):
+    """All rules of up to 4 items, and rules of more of them, with many ties, few and none."""
     rules = [rule for size in range(5) for rule in all_rules(size)]
-    for size in range(5, 13):
-        for seed in range(6):
+    for size in range(5, most + 1):
+        for seed in range(seeds):
             rules.append(random_rule(size, seed))
             rules.append(random_rule(size, seed, (-1, 1)))
             rules.append(random_rule(size, seed, (-1, 0, 0, 0, 1)))
@@ -40,12 +41,115 @@ def some_rules():
     return rules
 
 
+def one_after_the_other(rules):
+    """The rule made of the items of some rules: each is before all items of later rules."""
+    size = sum(len(rule) for rule in rules)
+    whole = [[(x > y) - (x < y) for y in range(size)] for x in range(size)]
+    start = 0
+    for rule in rules:
+        for item, row in enumerate(rule):
+            whole[start + item][start:start + len(rule)] = row
+        start += len(rule)
+    return whole
+
+
+def three_groups(seed):
+    """A rule of twelve items in three groups: two items of different groups are answered as the groups of RING."""
+    rule = random_rule(12, seed)
+    for one, other in itertools.combinations(range(12), 2):
+        if one // 4 != other // 4:
+            rule[one][other] = RING[one // 4][other // 4]
+            rule[other][one] = -rule[one][other]
+    return rule
+
+
+def long_ring():
+    """The rule of twelve items of which each is before the next one and behind all later ones."""
+    pairs = itertools.combinations(range(12), 2)
+    return rule_from(12, [-1 if other == one + 1 else 1 for one, other in pairs])
+
+
+def all_rows(size):
+    return [list(row) for row in itertools.permutations(range(size))]
+
+
+def some_rows(size, seed, many=20):
+    """All rows of a size, or some of them if they are many."""
+    if size <= 4:
+        return all_rows(size)
+    chance = random.Random(seed)
+    return [chance.sample(range(size), size) for _ in range(many)]
+
+
 def before(rule, one, other):
     return rule[one][other] == -1
 
 
 def may_precede(rule, one, other):
     return not before(rule, other, one)
+
+
+def is_path(rule, row):
+    return all(may_precede(rule, one, other) for one, other in zip(row, row[1:]))
+
+
+def all_paths(rule):
+    return [row for row in all_rows(len(rule)) if is_path(rule, row)]
+
+
+def wrong_of(rule, row):
+    """The wrong pairs of a row, looked up for each two items."""
+    items = itertools.product(range(len(rule)), repeat=2)
+    return [(x, y) for x, y in items if row.index(x) < row.index(y) and before(rule, y, x)]
+
+
+def by_insertion(rule, row):
+    result = []
+    for x in row:
+        place = len(result)
+        while place > 0 and before(rule, x, result[place - 1]):
+            place -= 1
+        result.insert(place, x)
+    return result
+
+
+def by_halving(rule, row):
+    result = []
+    for x in row:
+        low, high = 0, len(result)
+        while low < high:
+            middle = (low + high) // 2
+            if before(rule, x, result[middle]):
+                high = middle
+            else:
+                low = middle + 1
+        result.insert(low, x)
+    return result
+
+
+def by_parting(rule, row):
+    if len(row) <= 1:
+        return list(row)
+    pivot, *others = row
+    ahead = [x for x in others if before(rule, x, pivot)]
+    behind = [x for x in others if not before(rule, x, pivot)]
+    return by_parting(rule, ahead) + [pivot] + by_parting(rule, behind)
+
+
+def by_choosing(rule, row):
+    left, result = list(row), []
+    while left:
+        kept = left[0]
+        for x in left[1:]:
+            if before(rule, x, kept):
+                kept = x
+        left.remove(kept)
+        result.append(kept)
+    return result
+
+
+# The three sorts for which it is told what is sure.
+SURE_SORTS = {"insertion": by_insertion, "parting": by_parting, "choosing": by_choosing}
 
 
 def reached(rule, start):
@@ -63,6 +167,22 @@ def reached(rule, start):
 
 def knot_of(rule, item):
     return sorted(other for other in reached(rule, item) if item in reached(rule, other))
+
+
+# Things that are no rows of a rule of three items, with the field of their error.
+BAD_ROWS = [(thing, None) for thing in ODD_THINGS] + [
+    (3, None), ("012", None), ((0, 1, 2), None), ({0: 0, 1: 1, 2: 2}, None), ([], None), ([0, 1], None),
+    ([0, 1, 2, 2], None), ([0, 1, 2, 3], None), ([True, True], None), ([5], None),
+    ([0, 1, 1], 2), ([0, 0, 1], 1), ([2, 2, 9], 1), ([0, 1, 0], 2), ([0, 1, 3], 2), ([3, 3, 3], 0), ([-1, 0, 1], 0),
+    ([0, -1, 1], 1), ([True, 0, 2], 0), ([0, True, 2], 1), ([2, 1, False], 2), ([0, 1, None], 2), ([0, [1], 2], 1),
+    ([0, 1, 2.0], 2), ([0, 1, "2"], 2), ([0, {}, set()], 1), ([10 ** 5000, 1, 2], 0), ([None, 1, 1], 0),
+]
+
+
+def answer(call, *args, **more):
+    """What a call returns, and for a generator the list of what it yields."""
+    told = call(*args, **more)
+    return list(told) if inspect.isgenerator(told) else told
 
 
 def lists_within(thing):

@@ -7,30 +7,74 @@ import unittest
 
 from knotsorts.errors import InvalidRule
 from knotsorts.knots import knots, ring, triangles
+from knotsorts.paths import count_paths, each_path, path_with, wrong_place
 from knotsorts.rules import partial_order, rule_of_ballots, rule_of_numbers, rule_of_pairs, weak_order
-from helpers import ODD_THINGS, RING, caught, lists_within, random_rule, some_rules, tuples_of
+from knotsorts.scanning import input_keeping, scan
+from knotsorts.sure import covers, input_with, sure_pairs
+from knotsorts.wrong import fewest_wrong, most_wrong, wrong_pairs
+from helpers import (
+    ODD_THINGS, RING, answer, caught, lists_within, long_ring, one_after_the_other, random_rule, some_rules,
+    three_groups, tuples_of,
+)
+
+# Each function with the file in which it is, the names of its parameters, those behind the * with what stands for
+# them otherwise, and some arguments.
+CALLS = [
+    (rule_of_pairs, "rules", ["size", "pairs"], {}, [4, [(0, 1), (3, 2)]]),
+    (rule_of_numbers, "rules", ["numbers"], {"tolerance": 0}, [[5, 3, 4, 4]]),
+    (rule_of_ballots, "rules", ["size", "ballots"], {}, [3, [[0, 1, 2], [1, 2, 0], [2, 0, 1]]]),
+    (partial_order, "rules", ["rule"], {}, [RING]),
+    (weak_order, "rules", ["rule"], {}, [RING]),
+    (knots, "knots", ["rule"], {}, [random_rule(6, 1)]),
+    (ring, "knots", ["rule", "item"], {}, [[[0] * 5 for _ in range(5)], 3]),
+    (triangles, "knots", ["rule"], {}, [random_rule(7, 2)]),
+    (wrong_place, "paths", ["rule", "row"], {}, [RING, [2, 1, 0]]),
+    (path_with, "paths", ["rule", "first", "second"], {}, [random_rule(6, 1), 2, 5]),
+    (count_paths, "paths", ["rule"], {}, [random_rule(6, 1)]),
+    (each_path, "paths", ["rule"], {}, [one_after_the_other([RING, RING])]),
+    (covers, "sure", ["rule", "one", "other"], {}, [[[0, -1], [1, 0]], 0, 1]),
+    (sure_pairs, "sure", ["rule"], {"sort": "insertion"}, [one_after_the_other([RING, RING])]),
+    (input_with, "sure", ["rule", "first", "second"], {"sort": "insertion"}, [random_rule(6, 1), 2, 5]),
+    (wrong_pairs, "wrong", ["rule", "row"], {}, [RING, [2, 1, 0]]),
+    (fewest_wrong, "wrong", ["rule"], {}, [random_rule(6, 1)]),
+    (most_wrong, "wrong", ["rule"], {}, [random_rule(6, 1)]),
+    (scan, "scanning", ["rule", "items"], {}, [RING, [2, 0, 1, 1, 0]]),
+    (input_keeping, "scanning", ["rule", "item"], {}, [RING, 2]),
+]
 
 # Each function with a rule, with what else it is passed in a call that is right, and in one that is wrong.
-WITH_RULE = [(partial_order, [], []), (weak_order, [], []), (knots, [], []), (triangles, [], []), (ring, [0], [None])]
+WITH_RULE = [
+    (partial_order, [], [], {}),
+    (weak_order, [], [], {}),
+    (knots, [], [], {}),
+    (triangles, [], [], {}),
+    (ring, [0], [None], {}),
+    (wrong_place, [[0]], [None], {}),
+    (path_with, [0, 0], [None, -1], {}),
+    (count_paths, [], [], {}),
+    (each_path, [], [], {}),
+    (covers, [0, 0], [None, -1], {}),
+    (sure_pairs, [], [], {"sort": None}),
+    (input_with, [0, 0], [None, -1], {"sort": "halving"}),
+    (wrong_pairs, [[0]], [None], {}),
+    (fewest_wrong, [], [], {}),
+    (most_wrong, [], [], {}),
+    (scan, [[0]], [[]], {}),
+    (input_keeping, [0], [None], {}),
+]
 
-# Each function with the names of its parameters and some arguments.
-CALLS = [
-    (rule_of_pairs, ["size", "pairs"], [4, [(0, 1), (3, 2)]]),
-    (rule_of_numbers, ["numbers"], [[5, 3, 4, 4]]),
-    (rule_of_ballots, ["size", "ballots"], [3, [[0, 1, 2], [1, 2, 0], [2, 0, 1]]]),
-    (partial_order, ["rule"], [RING]),
-    (weak_order, ["rule"], [RING]),
-    (knots, ["rule"], [random_rule(6, 1)]),
-    (ring, ["rule", "item"], [[[0] * 5 for _ in range(5)], 3]),
-    (triangles, ["rule"], [random_rule(7, 2)]),
+# The calls, each once for each of the three sorts of those that have a sort.
+SORTED_CALLS = [(call, args, {}) for call, _, _, _, args in CALLS] + [
+    (call, args, {"sort": sort})
+    for call, _, _, more, args in CALLS if "sort" in more for sort in ("parting", "choosing")
 ]
 
 
 class InvalidRules(unittest.TestCase):
     def check(self, rule, item):
-        for call, right, wrong in WITH_RULE:
-            for more in (right, wrong):
-                error = caught(InvalidRule, call, rule, *more)
+        for call, right, wrong, named in WITH_RULE:
+            for more, by_name in ((right, {}), (wrong, named)):
+                error = caught(InvalidRule, answer, call, rule, *more, **by_name)
                 self.assertEqual(error.item, item, (call, rule))
                 self.assertIs(error.item.__class__, item.__class__)
 
@@ -91,10 +135,12 @@ class InvalidRules(unittest.TestCase):
         self.check([[0, -1, 0], [-1, 0, 0], [0, 0, True]], 2)
 
     def test_rules_are_taken(self):
-        for rule in some_rules():
-            for call, right, _ in WITH_RULE:
-                if rule or not right:
-                    call(rule, *right)
+        for rule in some_rules(5):
+            for call, right, _, _ in WITH_RULE:
+                if call in (wrong_place, wrong_pairs):
+                    call(rule, list(range(len(rule))))
+                elif rule or not right:
+                    answer(call, rule, *right)
 
     def test_a_list_that_stands_for_several_items(self):
         row = [0, 0]
@@ -103,71 +149,112 @@ class InvalidRules(unittest.TestCase):
 
 class GeneralRules(unittest.TestCase):
     def test_all_functions_are_looked_at(self):
-        self.assertEqual({call for call, _, _ in WITH_RULE}, {call for call, names, _ in CALLS if names[0] == "rule"})
+        with_rule = {call for call, _, names, _, _ in CALLS if names[0] == "rule"}
+        self.assertEqual({call for call, _, _, _ in WITH_RULE}, with_rule)
 
     def test_by_position_and_by_name(self):
-        for call, names, args in CALLS:
-            by_name = dict(zip(reversed(names), reversed(args)))
-            self.assertEqual(call(*args), call(**by_name), call)
+        for call, _, names, more, args in CALLS:
+            expected = answer(call, *args)
+            for many in range(len(args)):
+                by_name = dict(zip(reversed(names[many:]), reversed(args[many:])))
+                self.assertEqual(answer(call, *args[:many], **by_name), expected, call)
+            self.assertEqual(answer(call, *args, **more), expected, call)
 
     def test_the_parameters_are_those_of_the_interface(self):
-        for call, names, _ in CALLS:
-            expected = names + (["tolerance"] if call is rule_of_numbers else [])
+        for call, _, names, more, _ in CALLS:
             told = inspect.signature(call).parameters
-            self.assertEqual(list(told), expected)
+            self.assertEqual(list(told), names + list(more))
             for name in names:
                 self.assertEqual(told[name].kind, inspect.Parameter.POSITIONAL_OR_KEYWORD)
                 self.assertIs(told[name].default, inspect.Parameter.empty)
+            for name, value in more.items():
+                self.assertEqual(told[name].kind, inspect.Parameter.KEYWORD_ONLY)
+                self.assertEqual(told[name].default, value)
 
     def test_arguments_are_not_changed(self):
-        for call, _, args in CALLS:
+        for call, args, more in SORTED_CALLS:
             earlier = copy.deepcopy(args)
-            call(*args)
-            self.assertEqual(tuples_of(args), tuples_of(earlier))
+            answer(call, *args, **more)
+            self.assertEqual(tuples_of(args), tuples_of(earlier), call)
 
     def test_arguments_are_not_changed_by_a_call_that_fails(self):
-        args = [3, [(0, 1), (1, 0)]]
-        with self.assertRaises(ValueError):
-            rule_of_pairs(*args)
-        self.assertEqual(args, [3, [(0, 1), (1, 0)]])
+        calls = [(rule_of_pairs, [3, [(0, 1), (1, 0)]]), (each_path, [[[0] * 7 for _ in range(7)]])]
+        calls += [(call, [RING, [1, 0, 0]]) for call in (wrong_place, wrong_pairs)]
+        calls += [(scan, [RING, [1, 0, 3]]), (path_with, [RING, 0, 3]), (input_with, [RING, 0, 3])]
+        for call, args in calls:
+            earlier = copy.deepcopy(args)
+            with self.assertRaises((ValueError, LookupError)):
+                answer(call, *args)
+            self.assertEqual(args, earlier, call)
 
     def test_lists_are_new(self):
-        for call, _, args in CALLS:
-            first, second = call(*args), call(*args)
+        for call, args, more in SORTED_CALLS:
+            first, second = answer(call, *args, **more), answer(call, *args, **more)
             self.assertEqual(first, second)
             found = [id(part) for part in lists_within(first) + lists_within(second) + lists_within(args)]
             self.assertEqual(len(found), len(set(found)), call)
 
+    def test_lists_are_new_for_the_rule_of_no_items(self):
+        for call, right, _, _ in WITH_RULE:
+            if not right:
+                first, second = answer(call, []), answer(call, [])
+                found = [id(part) for part in lists_within(first) + lists_within(second)]
+                self.assertEqual(len(found), len(set(found)), call)
+
     def test_later_changes_have_no_effect(self):
-        for call, _, args in CALLS:
-            expected = tuples_of(call(*args))
-            for part in lists_within(call(*args)):
+        for call, args, more in SORTED_CALLS:
+            expected = tuples_of(answer(call, *args, **more))
+            for part in lists_within(answer(call, *args, **more)):
                 part.append(None)
-            self.assertEqual(tuples_of(call(*args)), expected)
+            self.assertEqual(tuples_of(answer(call, *args, **more)), expected)
 
     def test_they_are_defined_in_their_files(self):
-        for call, _, _ in CALLS:
-            home = "knotsorts.knots" if call in (knots, ring, triangles) else "knotsorts.rules"
-            self.assertEqual(call.__module__, home)
+        for call, home, _, _, _ in CALLS:
+            self.assertEqual(call.__module__, "knotsorts." + home)
 
 
 class Bounds(unittest.TestCase):
-    def test_the_greatest_calls_end_within_seconds(self):
+    def check_seconds(self, call, *args, **more):
+        start = time.monotonic()
+        answer(call, *args, **more)
+        self.assertLess(time.monotonic() - start, 5, call)
+
+    def test_the_greatest_rules_end_within_seconds(self):
         ballots = [list(range(12))] * 30 + [list(range(11, -1, -1))] * 30
-        calls = [(rule_of_pairs, [12, [(0, 1)] * 200]), (rule_of_ballots, [12, ballots])]
-        calls.append((rule_of_numbers, [[10 ** 20 - 1 - item for item in range(12)]]))
-        for rule in ([[0] * 12 for _ in range(12)], random_rule(12, 3), random_rule(12, 4, (-1, 1))):
-            calls.extend((call, [rule] + more) for call, more, _ in WITH_RULE)
-        for call, args in calls:
-            start = time.monotonic()
-            call(*args)
-            self.assertLess(time.monotonic() - start, 5, call)
+        self.check_seconds(rule_of_pairs, 12, [(0, 1)] * 200)
+        self.check_seconds(rule_of_ballots, 12, ballots)
+        self.check_seconds(rule_of_numbers, [10 ** 20 - 1 - item for item in range(12)])
+
+    def test_the_greatest_calls_end_within_seconds(self):
+        row = list(range(12))
+        arguments = {wrong_place: [row], wrong_pairs: [row], path_with: [11, 0], input_with: [11, 0], scan: [row * 5]}
+        rules = [[[0] * 12 for _ in range(12)], random_rule(12, 3), random_rule(12, 4, (-1, 1)), three_groups(5)]
+        for rule in rules + [one_after_the_other([[[0]], random_rule(11, 5, (-1, 1))])]:
+            for call, right, _, named in WITH_RULE:
+                if call == each_path:
+                    continue
+                for sort in ("insertion", "parting", "choosing") if named else (None,):
+                    self.check_seconds(call, rule, *arguments.get(call, right), **({"sort": sort} if sort else {}))
+            for item in range(12):
+                self.check_seconds(input_keeping, rule, item)
+        ties = [[0] * 6 for _ in range(6)]
+        for rules in ([long_ring()], [RING] * 4, [ties] + [[[0]]] * 6, [[[0]]] * 6 + [ties]):
+            self.check_seconds(each_path, one_after_the_other(rules))
 
     def test_thirteen_items_are_no_error(self):
         rule = [[0] * 13 for _ in range(13)]
-        self.assertEqual(knots(rule), [list(range(13))])
-        self.assertEqual(sorted(ring(rule, 12)), list(range(13)))
+        row = list(range(13))
+        self.assertEqual(knots(rule), [row])
+        self.assertEqual(sorted(ring(rule, 12)), row)
         self.assertEqual((partial_order(rule), weak_order(rule), triangles(rule)), (None, None, []))
+        self.assertIsNone(wrong_place(rule, row))
+        self.assertEqual(sorted(path_with(rule, 12, 3)), row)
+        self.assertEqual(count_paths(rule), 6227020800)
+        self.assertEqual((covers(rule, 12, 0), sure_pairs(rule), wrong_pairs(rule, row)), (False, [], []))
+        self.assertEqual(sorted(input_with(rule, 12, 3, sort="choosing")), row)
+        self.assertEqual((fewest_wrong(rule)[0], most_wrong(rule)[0]), (0, 0))
+        self.assertEqual(scan(rule, [12] * 61), [12])
+        self.assertEqual(sorted(input_keeping(rule, 12)), row)
 
 
 if __name__ == "__main__":

@@ -1,12 +1,13 @@
 """Points [9], [10] and [11]: knots and their line, rings, triangles."""
 
 import itertools
+import random
 import unittest
 
 from knotsorts.errors import UnknownItem
 from knotsorts.knots import knots, ring, triangles
 from knotsorts.rules import rule_of_numbers, rule_of_pairs
-from helpers import ODD_THINGS, RING, before, caught, knot_of, may_precede, random_rule, rule_from, some_rules
+from helpers import ODD_THINGS, RING, before, caught, knot_of, long_ring, may_precede, some_rules, three_groups
 
 
 class Knots(unittest.TestCase):
@@ -30,11 +31,23 @@ class Knots(unittest.TestCase):
     def test_knots_of_numbers_with_a_tolerance(self):
         self.assertEqual(knots(rule_of_numbers([10, 0, 2, 4, 7, 12], tolerance=2)), [[1, 2, 3], [4], [0, 5]])
 
+    def test_knots_of_many_numbers_by_sorting_them(self):
+        for seed in range(60):
+            chance = random.Random(seed)
+            numbers = [chance.randrange(-20, 21) for _ in range(chance.randrange(13))]
+            tolerance = chance.randrange(8)
+            expected = []
+            last = None
+            for number, item in sorted(zip(numbers, range(12))):
+                if last is None or number - last > tolerance:
+                    expected.append([])
+                expected[-1].append(item)
+                last = number
+            rule = rule_of_numbers(numbers, tolerance=tolerance)
+            self.assertEqual(knots(rule), [sorted(knot) for knot in expected], (numbers, tolerance))
+
     def test_one_long_ring(self):
-        # Each item is before the next one and behind all later ones: one knot of twelve.
-        pairs = itertools.combinations(range(12), 2)
-        rule = rule_from(12, [-1 if other == one + 1 else 1 for one, other in pairs])
-        self.assertEqual(knots(rule), [list(range(12))])
+        self.assertEqual(knots(long_ring()), [list(range(12))])
 
     def test_against_all_chains(self):
         for rule in some_rules():
@@ -73,11 +86,8 @@ class Rings(unittest.TestCase):
         self.assertIsNone(ring(rule, 3))
 
     def test_the_only_ring_of_twelve_items(self):
-        # Item 0 is before 1, and 1 before 2, and so on; any other item is behind the earlier ones.
-        pairs = itertools.combinations(range(12), 2)
-        rule = rule_from(12, [-1 if other == one + 1 else 1 for one, other in pairs])
         for item in range(12):
-            self.check_ring(rule, item)
+            self.check_ring(long_ring(), item)
 
     def test_each_item_of_many_rules(self):
         for rule in some_rules():
@@ -85,13 +95,8 @@ class Rings(unittest.TestCase):
                 self.check_ring(rule, item)
 
     def test_each_item_of_rings_of_knots(self):
-        # Three groups in a ring: two items of different groups are answered as the groups are.
-        for inner in range(6):
-            rule = random_rule(12, inner)
-            for one, other in itertools.combinations(range(12), 2):
-                if one // 4 != other // 4:
-                    rule[one][other] = RING[one // 4][other // 4]
-                    rule[other][one] = -rule[one][other]
+        for seed in range(6):
+            rule = three_groups(seed)
             for item in range(12):
                 self.check_ring(rule, item)
 
