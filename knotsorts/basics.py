@@ -72,6 +72,11 @@ def check_sort(sort, names):
         raise UnknownSort(sort)
 
 
+def copy_of_rule(rule):
+    """A rule with the same answers."""
+    return [list(answers) for answers in rule]
+
+
 def is_before(rule, one, other):
     """Whether one item is before another one."""
     return rule[one][other] == -1
@@ -85,3 +90,8 @@ def items_behind(rule, one):
 def may_precede(rule, one, other):
     """Whether one item may precede another one."""
     return rule[one][other] != 1
+
+
+def with_the_others(rule, row):
+    """A row that begins with these items."""
+    return row + [item for item in range(len(rule)) if item not in row]

@@ -8,14 +8,19 @@ from knotsorts.parts import bit_of, is_in, part_of, step_table
 MOST_YIELDED = 1000
 
 
+def first_break(rule, items):
+    """None if each of these items may precede the next one, otherwise the first place where one may not."""
+    for place in range(len(items) - 1):
+        if not may_precede(rule, items[place], items[place + 1]):
+            return place
+    return None
+
+
 def wrong_place(rule, row):
     """None if a row is a path, otherwise the first place whose item may not precede the next one."""
     check_rule(rule)
     check_row(rule, row)
-    for place in range(len(row) - 1):
-        if not may_precede(rule, row[place], row[place + 1]):
-            return place
-    return None
+    return first_break(rule, row)
 
 
 def path_of_knot(rule, start):
@@ -26,6 +31,15 @@ def path_of_knot(rule, start):
     return around
 
 
+def path_starting(rule, item):
+    """A path in which no other item of its knot is ahead of an item."""
+    path = []
+    for knot in knots(rule):
+        start = item if item in knot else knot[0]
+        path = path + path_of_knot(rule, start)
+    return path
+
+
 def path_with(rule, first, second):
     """A path in which the first item is ahead of the second one, or None if there is none."""
     check_rule(rule)
@@ -33,11 +47,7 @@ def path_with(rule, first, second):
     check_item(rule, second)
     if first == second:
         return None
-    path = []
-    for knot in knots(rule):
-        # The item with which its knot begins is ahead of all others there.
-        start = first if first in knot else knot[0]
-        path = path + path_of_knot(rule, start)
+    path = path_starting(rule, first)
     # Now it is behind only if its knot is, and then it is so in every path.
     if path.index(second) < path.index(first):
         return None

@@ -1,6 +1,6 @@
 """What is sure for all inputs of insertion, parting and choosing, and inputs for what is possible."""
 
-from knotsorts.basics import check_item, check_rule, check_sort, is_before, items_behind
+from knotsorts.basics import check_item, check_rule, check_sort, is_before, items_behind, with_the_others
 from knotsorts.knots import knots
 from knotsorts.paths import path_with
 
@@ -59,11 +59,6 @@ def sure_pairs(rule, *, sort="insertion"):
     if sort == "parting":
         return [(x, y) for x in items for y in items if is_covering(rule, x, y)]
     return [(x, y) for x in items for y in items if chain_away(rule, y, x) is None]
-
-
-def with_the_others(rule, row):
-    """A row that begins with these items."""
-    return row + [item for item in range(len(rule)) if item not in row]
 
 
 def parting_row(rule, first, second):

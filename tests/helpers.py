@@ -103,23 +103,30 @@ def wrong_of(rule, row):
     return [(x, y) for x, y in items if row.index(x) < row.index(y) and before(rule, y, x)]
 
 
-def by_insertion(rule, row):
+def noted(rule, asked, x, y):
+    """Whether an item is before another one; what is asked is put into a list, if there is one."""
+    if asked is not None:
+        asked.append((x, y))
+    return before(rule, x, y)
+
+
+def by_insertion(rule, row, asked=None):
     result = []
     for x in row:
         place = len(result)
-        while place > 0 and before(rule, x, result[place - 1]):
+        while place > 0 and noted(rule, asked, x, result[place - 1]):
             place -= 1
         result.insert(place, x)
     return result
 
 
-def by_halving(rule, row):
+def by_halving(rule, row, asked=None):
     result = []
     for x in row:
         low, high = 0, len(result)
         while low < high:
             middle = (low + high) // 2
-            if before(rule, x, result[middle]):
+            if noted(rule, asked, x, result[middle]):
                 high = middle
             else:
                 low = middle + 1
@@ -127,29 +134,150 @@ def by_halving(rule, row):
     return result
 
 
-def by_parting(rule, row):
+def by_merging(rule, row, asked=None):
+    if len(row) <= 1:
+        return list(row)
+    one = by_merging(rule, row[:len(row) // 2], asked)
+    other = by_merging(rule, row[len(row) // 2:], asked)
+    result = []
+    while one and other:
+        result.append((other if noted(rule, asked, other[0], one[0]) else one).pop(0))
+    return result + one + other
+
+
+def by_parting(rule, row, asked=None):
     if len(row) <= 1:
         return list(row)
     pivot, *others = row
-    ahead = [x for x in others if before(rule, x, pivot)]
-    behind = [x for x in others if not before(rule, x, pivot)]
-    return by_parting(rule, ahead) + [pivot] + by_parting(rule, behind)
+    told = [noted(rule, asked, x, pivot) for x in others]
+    ahead = by_parting(rule, [x for x, is_before in zip(others, told) if is_before], asked)
+    behind = by_parting(rule, [x for x, is_before in zip(others, told) if not is_before], asked)
+    return ahead + [pivot] + behind
 
 
-def by_choosing(rule, row):
+def by_choosing(rule, row, asked=None):
     left, result = list(row), []
     while left:
         kept = left[0]
         for x in left[1:]:
-            if before(rule, x, kept):
+            if noted(rule, asked, x, kept):
                 kept = x
         left.remove(kept)
         result.append(kept)
     return result
 
 
+def by_bubbling(rule, row, asked=None):
+    result = list(row)
+    for last in reversed(range(1, len(row))):
+        for k in range(last):
+            x, y = result[k:k + 2]
+            if noted(rule, asked, y, x):
+                result[k:k + 2] = [y, x]
+    return result
+
+
+def by_heaping(rule, row, asked=None):
+    def settle(i):
+        while 2 * i + 1 < len(left):
+            child = 2 * i + 1
+            if 2 * i + 2 < len(left) and noted(rule, asked, left[2 * i + 2], left[child]):
+                child = 2 * i + 2
+            if not noted(rule, asked, left[child], left[i]):
+                break
+            left[child], left[i] = left[i], left[child]
+            i = child
+
+    left, result = list(row), []
+    for i in reversed(range(len(row) // 2)):
+        settle(i)
+    while left:
+        result.append(left[0])
+        last = left.pop()
+        if left:
+            left[0] = last
+        settle(0)
+    return result
+
+
+# The seven sorts, and the six of them that are faithful.
+BY_HAND = {
+    "insertion": by_insertion, "halving": by_halving, "merging": by_merging, "parting": by_parting,
+    "choosing": by_choosing, "bubbling": by_bubbling, "heaping": by_heaping,
+}
+FAITHFUL = [name for name in BY_HAND if name != "heaping"]
 # The three sorts for which it is told what is sure.
-SURE_SORTS = {"insertion": by_insertion, "parting": by_parting, "choosing": by_choosing}
+SURE_SORTS = {name: BY_HAND[name] for name in ("insertion", "parting", "choosing")}
+# Things that are no names of sorts.
+NO_SORTS = ODD_THINGS + [
+    "Insertion", " insertion", "insertion ", "insert", "sorting", [], ["insertion"], 0, b"parting", ("parting",),
+    {"choosing"}, {"heaping": 1},
+]
+
+
+def results_by_hand(rule, name):
+    """The ascending list of the results of a sort for all inputs, each once."""
+    return sorted({tuple(BY_HAND[name](rule, row)) for row in all_rows(len(rule))})
+
+
+def part_of(rule, items):
+    """The rule of some of the items, numbered anew in the order in which they are given."""
+    return [[rule[x][y] for y in items] for x in items]
+
+
+def rule_of_row(row):
+    """The rule in which each item of a row is before all behind it."""
+    return [[(row.index(x) > row.index(y)) - (row.index(x) < row.index(y)) for y in range(len(row))]
+            for x in range(len(row))]
+
+
+def without_ties(rule, row):
+    """A rule with each tie replaced by the answer that puts the item first which stands first in a row."""
+    instead = rule_of_row(row)
+    return [[rule[x][y] or instead[x][y] for y in range(len(rule))] for x in range(len(rule))]
+
+
+def has_ring_of_answers(rule):
+    """Whether there are items each of which is before the next one and the last one before the first one."""
+    left = set(range(len(rule)))
+    while left:
+        fit = {x for x in left if not any(before(rule, y, x) for y in left)}
+        if not fit:
+            return True
+        left -= fit
+    return False
+
+
+def number_rule(numbers, tolerance=0):
+    """The rule from numbers with a tolerance."""
+    return [[(x > y + tolerance) - (x + tolerance < y) for y in numbers] for x in numbers]
+
+
+def telling_rules():
+    """Orders, numbers with a tolerance, rings and knots in a line, of five to twelve items."""
+    chance = random.Random(7)
+    rules = [long_ring(), three_groups(1), three_groups(2), one_after_the_other([RING] * 4)]
+    rules += [[[0] * 12 for _ in range(12)], one_after_the_other([[[0, 0], [0, 0]], RING, random_rule(7, 3)])]
+    for size in range(5, 13):
+        rules.append(number_rule(chance.sample(range(size), size)))
+        rules.append(number_rule([chance.randrange(4) for _ in range(size)]))
+        rules.append(number_rule([chance.randrange(3 * size) for _ in range(size)], 4))
+        # A partial order: an item is before another one if all of its numbers are less.
+        pairs = [(chance.random(), chance.random()) for _ in range(size)]
+        rules.append([[all(a > b for a, b in zip(x, y)) - all(a < b for a, b in zip(x, y)) for y in pairs]
+                      for x in pairs])
+    return rules
+
+
+def some_cases(most=12, seeds=3, many=4):
+    """Rules, each with some rows of it."""
+    rules = some_rules(most, seeds) + [rule for rule in telling_rules() if len(rule) <= most]
+    for number, rule in enumerate(rules):
+        rows = some_rows(len(rule), number, many)
+        if len(rule) == 4:
+            rows = random.Random(number).sample(rows, many)
+        for row in rows:
+            yield rule, row
 
 
 def reached(rule, start):

@@ -12,7 +12,7 @@ from knotsorts.paths import count_paths, each_path, path_with, wrong_place
 from knotsorts.rules import rule_of_numbers
 from helpers import (
     BAD_ROWS, ODD_THINGS, RING, all_paths, all_rows, before, caught, is_path, long_ring, may_precede,
-    one_after_the_other, random_rule, reached, rule_from, some_rows, some_rules, three_groups,
+    one_after_the_other, part_of, random_rule, reached, rule_from, some_rows, some_rules, three_groups,
 )
 
 TIES = [[0] * 12 for _ in range(12)]
@@ -21,11 +21,6 @@ SEVERAL = one_after_the_other([[[0, 0], [0, 0]], RING, [[0] * 5 for _ in range(5
 FORTY = rule_from(5, [-1, 0, 0, -1, 0, 0, 0, 1, -1, 1])
 TWENTY_FIVE = rule_from(5, [-1, 0, -1, 1, 0, 0, -1, -1, -1, -1])
 THOUSAND_AND_ONE = rule_from(7, [-1, 1, 0, -1, -1, 0, -1, 1, -1, 0, 0, 0, 1, 0, 0, 0, -1, 1, 0, 0, 0])
-
-
-def part_of(rule, items):
-    """The rule of some of the items, numbered anew in the order in which they are given."""
-    return [[rule[x][y] for y in items] for x in items]
 
 
 def count_apart(rule):

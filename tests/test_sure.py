@@ -8,15 +8,12 @@ from knotsorts.knots import knots
 from knotsorts.rules import partial_order, rule_of_numbers, rule_of_pairs, weak_order
 from knotsorts.sure import covers, input_with, sure_pairs
 from helpers import (
-    ODD_THINGS, RING, SURE_SORTS, all_rows, before, by_choosing, by_halving, by_insertion, by_parting, caught,
+    NO_SORTS, ODD_THINGS, RING, SURE_SORTS, all_rows, before, by_choosing, by_halving, by_insertion, by_parting, caught,
     long_ring, may_precede, random_rule, some_rows, some_rules, three_groups, wrong_of,
 )
 
 # What is no name of one of the three sorts.
-OTHER_SORTS = [thing for thing in ODD_THINGS] + [
-    "halving", "merging", "bubbling", "heaping", "Insertion", " insertion", "insert", [], ["insertion"], 0, b"parting",
-    ("parting",), {"choosing"},
-]
+OTHER_SORTS = NO_SORTS + ["halving", "merging", "bubbling", "heaping"]
 CHAIN = [[0, -1, 0], [1, 0, -1], [0, 1, 0]]
 
 
