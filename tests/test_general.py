@@ -1,21 +1,32 @@
-"""Points [2] and [3], and InvalidRule: what holds for all functions alike."""
+"""Points [2] and [3], and InvalidRule: what holds for all functions and classes alike."""
 
 import copy
 import inspect
+import itertools
 import time
 import unittest
 
+from knotsorts.counting import count_inputs, firsts, input_with_first
 from knotsorts.errors import InvalidRule
+from knotsorts.kinds import KeptRow
 from knotsorts.knots import knots, ring, triangles
 from knotsorts.paths import count_paths, each_path, path_with, wrong_place
+from knotsorts.results import count_results, each_result, input_for, is_bar
 from knotsorts.rules import partial_order, rule_of_ballots, rule_of_numbers, rule_of_pairs, weak_order
 from knotsorts.scanning import input_keeping, scan
+from knotsorts.searching import found_at, found_items, looked_at
+from knotsorts.sorts import asked_pairs, is_faithful, sorted_row
 from knotsorts.sure import covers, input_with, sure_pairs
+from knotsorts.text import format_rule, parse_rule
+from knotsorts.trees import SearchTree
 from knotsorts.wrong import fewest_wrong, most_wrong, wrong_pairs
 from helpers import (
-    ODD_THINGS, RING, answer, caught, lists_within, long_ring, one_after_the_other, random_rule, some_rules,
-    three_groups, tuples_of,
+    BY_HAND, ODD_THINGS, RING, answer, caught, lists_within, long_ring, one_after_the_other, random_rule, rule_of_row,
+    some_rules, three_groups, tuples_of,
 )
+
+COUNTED = ("insertion", "bubbling", "parting")
+FIRST = ("insertion", "bubbling", "parting", "choosing")
 
 # Each function with the file in which it is, the names of its parameters, those behind the * with what stands for
 # them otherwise, and some arguments.
@@ -40,7 +51,34 @@ CALLS = [
     (most_wrong, "wrong", ["rule"], {}, [random_rule(6, 1)]),
     (scan, "scanning", ["rule", "items"], {}, [RING, [2, 0, 1, 1, 0]]),
     (input_keeping, "scanning", ["rule", "item"], {}, [RING, 2]),
+    (is_faithful, "sorts", ["rule", "row", "result", "pairs"], {}, [RING, [2, 1, 0], [1, 2, 0], [(1, 2), (0, 2)]]),
+    (looked_at, "searching", ["rule", "row", "item"], {}, [random_rule(5, 1), [4, 2, 0, 1, 3], 3]),
+    (found_at, "searching", ["rule", "row", "item"], {}, [random_rule(5, 1), [4, 2, 0, 1, 3], 3]),
+    (found_items, "searching", ["rule", "row"], {}, [random_rule(5, 1), [4, 2, 0, 1, 3]]),
+    (format_rule, "text", ["rule"], {}, [random_rule(6, 1)]),
+    (parse_rule, "text", ["text"], {}, ["3\n0 < 1\n0 > 2\n1 < 2"]),
+    (SearchTree, "trees", ["rule"], {}, [RING]),
+    (KeptRow, "kinds", ["rule"], {}, [RING]),
 ]
+# Those with a sort that stands among the parameters, once for each of its names.
+for sort in BY_HAND:
+    CALLS.append((sorted_row, "sorts", ["rule", "row", "sort"], {}, [RING, [2, 1, 0], sort]))
+    CALLS.append((asked_pairs, "sorts", ["rule", "row", "sort"], {}, [RING, [2, 1, 0], sort]))
+    CALLS.append((each_result, "results", ["rule", "sort"], {}, [random_rule(4, 1), sort]))
+    CALLS.append((count_results, "results", ["rule", "sort"], {}, [random_rule(4, 1), sort]))
+for sort in FIRST:
+    CALLS.append((firsts, "counting", ["rule", "sort"], {}, [RING, sort]))
+    CALLS.append((input_with_first, "counting", ["rule", "item", "sort"], {}, [RING, 2, sort]))
+for sort in COUNTED:
+    # In the second rule, the last two items of the row are a bar.
+    for rule in ([[0] * 5 for _ in range(5)], rule_of_row([4, 2, 0, 3, 1])):
+        row = [4, 2, 0, 1, 3]
+        CALLS.append((input_for, "results", ["rule", "row", "sort"], {}, [rule, row, sort]))
+        CALLS.append((is_bar, "results", ["rule", "row", "sort", "first", "last"], {}, [rule, row, sort, 3, 5]))
+        CALLS.append((count_inputs, "counting", ["rule", "row", "sort"], {}, [rule, row, sort]))
+
+# What stands for a row of all items, and for the same pairs of all neighbours in it.
+ROW, PAIRS = "a row", "its pairs"
 
 # Each function with a rule, with what else it is passed in a call that is right, and in one that is wrong.
 WITH_RULE = [
@@ -49,19 +87,55 @@ WITH_RULE = [
     (knots, [], [], {}),
     (triangles, [], [], {}),
     (ring, [0], [None], {}),
-    (wrong_place, [[0]], [None], {}),
+    (wrong_place, [ROW], [None], {}),
     (path_with, [0, 0], [None, -1], {}),
     (count_paths, [], [], {}),
     (each_path, [], [], {}),
     (covers, [0, 0], [None, -1], {}),
     (sure_pairs, [], [], {"sort": None}),
     (input_with, [0, 0], [None, -1], {"sort": "halving"}),
-    (wrong_pairs, [[0]], [None], {}),
+    (wrong_pairs, [ROW], [None], {}),
     (fewest_wrong, [], [], {}),
     (most_wrong, [], [], {}),
     (scan, [[0]], [[]], {}),
     (input_keeping, [0], [None], {}),
+    (sorted_row, [ROW, "heaping"], [None, None], {}),
+    (asked_pairs, [ROW, "halving"], [[0, 0], "none"], {}),
+    (is_faithful, [ROW, ROW, PAIRS], [None, None, None], {}),
+    (input_for, [ROW, "bubbling"], [None, None], {}),
+    (is_bar, [ROW, "parting", 0, 1], [None, None, None, None], {}),
+    (each_result, ["merging"], [None], {}),
+    (count_results, ["choosing"], [[]], {}),
+    (count_inputs, [ROW, "parting"], [None, "merging"], {}),
+    (firsts, ["choosing"], ["merging"], {}),
+    (input_with_first, [0, "choosing"], [None, None], {}),
+    (looked_at, [ROW, 0], [None, None], {}),
+    (found_at, [ROW, 0], [None, None], {}),
+    (found_items, [ROW], [None], {}),
+    (format_rule, [], [], {}),
+    (SearchTree, [], [], {}),
+    (KeptRow, [], [], {}),
 ]
+
+
+def filled(args, size):
+    """Arguments, with a row of this size where they ask for one."""
+    row = list(range(size))
+    stands_for = {ROW: row, PAIRS: list(zip(row, row[1:]))}
+    return [list(stands_for[thing]) if thing in (ROW, PAIRS) else thing for thing in args]
+
+
+def shown(thing):
+    """What a call told: of an object what can be read of it."""
+    if isinstance(thing, SearchTree):
+        return (thing.row, thing.lost, thing.shape, len(thing))
+    if isinstance(thing, KeptRow):
+        return (thing.row, thing.rule, len(thing))
+    return thing
+
+
+def told_by(call, *args, **more):
+    return shown(answer(call, *args, **more))
 
 # The calls, each once for each of the three sorts of those that have a sort.
 SORTED_CALLS = [(call, args, {}) for call, _, _, _, args in CALLS] + [
@@ -73,7 +147,7 @@ SORTED_CALLS = [(call, args, {}) for call, _, _, _, args in CALLS] + [
 class InvalidRules(unittest.TestCase):
     def check(self, rule, item):
         for call, right, wrong, named in WITH_RULE:
-            for more, by_name in ((right, {}), (wrong, named)):
+            for more, by_name in ((filled(right, 1), {}), (wrong, named)):
                 error = caught(InvalidRule, answer, call, rule, *more, **by_name)
                 self.assertEqual(error.item, item, (call, rule))
                 self.assertIs(error.item.__class__, item.__class__)
@@ -135,12 +209,11 @@ class InvalidRules(unittest.TestCase):
         self.check([[0, -1, 0], [-1, 0, 0], [0, 0, True]], 2)
 
     def test_rules_are_taken(self):
-        for rule in some_rules(5):
+        for rule in some_rules(5)[::3]:
             for call, right, _, _ in WITH_RULE:
-                if call in (wrong_place, wrong_pairs):
-                    call(rule, list(range(len(rule))))
-                elif rule or not right:
-                    answer(call, rule, *right)
+                # The rule of no items has no item 0 and nothing to scan.
+                if rule or (0 not in right and [0] not in right) or call == is_bar:
+                    answer(call, rule, *filled(right, len(rule)))
 
     def test_a_list_that_stands_for_several_items(self):
         row = [0, 0]
@@ -154,11 +227,11 @@ class GeneralRules(unittest.TestCase):
 
     def test_by_position_and_by_name(self):
         for call, _, names, more, args in CALLS:
-            expected = answer(call, *args)
+            expected = told_by(call, *args)
             for many in range(len(args)):
                 by_name = dict(zip(reversed(names[many:]), reversed(args[many:])))
-                self.assertEqual(answer(call, *args[:many], **by_name), expected, call)
-            self.assertEqual(answer(call, *args, **more), expected, call)
+                self.assertEqual(told_by(call, *args[:many], **by_name), expected, call)
+            self.assertEqual(told_by(call, *args, **more), expected, call)
 
     def test_the_parameters_are_those_of_the_interface(self):
         for call, _, names, more, _ in CALLS:
@@ -179,7 +252,12 @@ class GeneralRules(unittest.TestCase):
 
     def test_arguments_are_not_changed_by_a_call_that_fails(self):
         calls = [(rule_of_pairs, [3, [(0, 1), (1, 0)]]), (each_path, [[[0] * 7 for _ in range(7)]])]
-        calls += [(call, [RING, [1, 0, 0]]) for call in (wrong_place, wrong_pairs)]
+        calls += [(call, [RING, [1, 0, 0]]) for call in (wrong_place, wrong_pairs, found_items)]
+        calls += [(call, [RING, [1, 0, 2], "none"]) for call in (sorted_row, asked_pairs, input_for, count_inputs)]
+        calls += [(is_bar, [RING, [1, 0, 2], "heaping", 0, 2]), (found_at, [RING, [1, 0, 2], 3])]
+        calls += [(is_faithful, [RING, [1, 0, 2], [2, 1, 0], [(0, 1), (1, 1)]]), (looked_at, [RING, [1, 0, 2], 3])]
+        calls += [(each_result, [[[0] * 7 for _ in range(7)], "parting"]), (firsts, [RING, "halving"])]
+        calls += [(KeptRow, [[[0, 1], [1, 0]]]), (SearchTree, [[[0, 1], [1, 0]]])]
         calls += [(scan, [RING, [1, 0, 3]]), (path_with, [RING, 0, 3]), (input_with, [RING, 0, 3])]
         for call, args in calls:
             earlier = copy.deepcopy(args)
@@ -189,24 +267,27 @@ class GeneralRules(unittest.TestCase):
 
     def test_lists_are_new(self):
         for call, args, more in SORTED_CALLS:
-            first, second = answer(call, *args, **more), answer(call, *args, **more)
+            first, second = told_by(call, *args, **more), told_by(call, *args, **more)
             self.assertEqual(first, second)
+            self.assertIs(first.__class__, second.__class__)
             found = [id(part) for part in lists_within(first) + lists_within(second) + lists_within(args)]
             self.assertEqual(len(found), len(set(found)), call)
 
     def test_lists_are_new_for_the_rule_of_no_items(self):
         for call, right, _, _ in WITH_RULE:
-            if not right:
-                first, second = answer(call, []), answer(call, [])
+            if 0 not in right and [0] not in right:
+                args = filled(right, 0)
+                first, second = told_by(call, [], *args), told_by(call, [], *args)
+                self.assertEqual(first, second)
                 found = [id(part) for part in lists_within(first) + lists_within(second)]
                 self.assertEqual(len(found), len(set(found)), call)
 
     def test_later_changes_have_no_effect(self):
         for call, args, more in SORTED_CALLS:
-            expected = tuples_of(answer(call, *args, **more))
-            for part in lists_within(answer(call, *args, **more)):
+            expected = tuples_of(told_by(call, *args, **more))
+            for part in lists_within(told_by(call, *args, **more)):
                 part.append(None)
-            self.assertEqual(tuples_of(answer(call, *args, **more)), expected)
+            self.assertEqual(tuples_of(told_by(call, *args, **more)), expected)
 
     def test_they_are_defined_in_their_files(self):
         for call, home, _, _, _ in CALLS:
@@ -227,17 +308,29 @@ class Bounds(unittest.TestCase):
 
     def test_the_greatest_calls_end_within_seconds(self):
         row = list(range(12))
-        arguments = {wrong_place: [row], wrong_pairs: [row], path_with: [11, 0], input_with: [11, 0], scan: [row * 5]}
+        arguments = {path_with: [11, 0], input_with: [11, 0], scan: [row * 5], input_with_first: [11, "choosing"]}
         rules = [[[0] * 12 for _ in range(12)], random_rule(12, 3), random_rule(12, 4, (-1, 1)), three_groups(5)]
         for rule in rules + [one_after_the_other([[[0]], random_rule(11, 5, (-1, 1))])]:
             for call, right, _, named in WITH_RULE:
-                if call == each_path:
+                if call in (each_path, each_result, count_results):
                     continue
+                args = arguments.get(call, filled(right, 12))
                 for sort in ("insertion", "parting", "choosing") if named else (None,):
-                    self.check_seconds(call, rule, *arguments.get(call, right), **({"sort": sort} if sort else {}))
+                    self.check_seconds(call, rule, *args, **({"sort": sort} if sort else {}))
             for item in range(12):
                 self.check_seconds(input_keeping, rule, item)
+            for sort in BY_HAND:
+                self.check_seconds(sorted_row, rule, row, sort)
+                self.check_seconds(asked_pairs, rule, row, sort)
+            for sort in COUNTED:
+                self.check_seconds(input_for, rule, row, sort)
+                self.check_seconds(count_inputs, rule, sorted_row(rule, row, sort), sort)
+            self.check_seconds(is_faithful, rule, row, row[::-1], list(itertools.permutations(row, 2)) + [(0, 1)] * 68)
         ties = [[0] * 6 for _ in range(6)]
+        for sort in BY_HAND:
+            for rule in (ties, random_rule(6, 1), random_rule(6, 2, (-1, 1))):
+                self.check_seconds(each_result, rule, sort)
+                self.check_seconds(count_results, rule, sort)
         for rules in ([long_ring()], [RING] * 4, [ties] + [[[0]]] * 6, [[[0]]] * 6 + [ties]):
             self.check_seconds(each_path, one_after_the_other(rules))
 
@@ -255,6 +348,15 @@ class Bounds(unittest.TestCase):
         self.assertEqual((fewest_wrong(rule)[0], most_wrong(rule)[0]), (0, 0))
         self.assertEqual(scan(rule, [12] * 61), [12])
         self.assertEqual(sorted(input_keeping(rule, 12)), row)
+        self.assertEqual({tuple(sorted_row(rule, row, sort)) for sort in BY_HAND if sort != "heaping"}, {tuple(row)})
+        self.assertEqual([count_inputs(rule, row, sort) for sort in COUNTED], [1, 1, 1])
+        self.assertEqual([firsts(rule, sort) for sort in FIRST], [row] * 4)
+        self.assertEqual((found_at(rule, row, 12), format_rule(rule)[:2]), (12, "13"))
+        tree, kept = SearchTree(rule), KeptRow(rule)
+        for item in row:
+            tree.insert(item)
+            kept.add(item)
+        self.assertEqual((tree.row, kept.row), (row, row))
 
 
 if __name__ == "__main__":
